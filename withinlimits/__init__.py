@@ -1,0 +1,1 @@
+"""Readers of rows with counts and limits within limits, decided for all rows."""
