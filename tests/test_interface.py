@@ -9,6 +9,9 @@ FUNCTIONS = {
         "is_part": "(thing)", "size_of": "(part)", "subparts": "(part)", "part_at": "(part, path)",
         "replaced": "(part, path, other)",
     },
+    "texts": {"show": "(reader)", "read_reader": "(text)"},
+    "lengths": {"lengths_of": "(reader, kind)", "example": "(reader, kind, length)", "verdict_of": "(reader)"},
+    "work": {"most_work": "(reader, length)", "idle_of": "(reader)"},
 }
 
 CLASSES = {
@@ -19,6 +22,8 @@ CLASSES = {
     },
     "sets": {"LengthSet": "(early=(), start=0, period=1, rests=())"},
     "cells": {"Cursor": "(row)", "Limit": None},
+    "reading": {"Reader": "(part)", "Outcome": None},
+    "lengths": {"Verdict": "(reader)"},
 }
 
 METHODS = {
@@ -32,6 +37,9 @@ METHODS = {
         "within": "(many, *, limit='nested')", "during": "(limit, call)", "behind": "(limit, *, rest='skip')",
     },
     ("cells", "Limit"): {"__enter__": None, "__exit__": None},
+    ("reading", "Reader"): {"__call__": "(row)", "__eq__": None},
+    ("reading", "Outcome"): {"told": "()", "__bool__": None, "__eq__": None},
+    ("lengths", "Verdict"): {"__bool__": None},
 }
 
 STATIC = ("none", "full", "from_least", "only")

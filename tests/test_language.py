@@ -43,7 +43,7 @@ def bound_names(tree):
             yield node.id
         elif isinstance(node, ast.arg):
             yield node.arg
-        elif isinstance(node, (ast.FunctionDef, ast.ClassDef)):
+        elif isinstance(node, (ast.FunctionDef, ast.ClassDef, ast.ExceptHandler)):
             yield node.name
         elif isinstance(node, ast.ImportFrom):
             for one in node.names:

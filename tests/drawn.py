@@ -1,0 +1,71 @@
+"""Readers that are drawn, always the same for the same seed, and rows to read with them."""
+
+import itertools
+import random
+
+from withinlimits.parts import counted_parts, is_part, subparts
+from withinlimits.reading import Reader
+
+KINDS = ("read", "refused", "beyond", "endless")
+
+
+def drawn_manner(draw):
+    return draw.choice(("checked", "bare"))
+
+
+def drawn_bounds(draw):
+    return draw.choice(((0, None), (0, None), (0, 0), (0, 1), (1, None), (1, 1), (2, 2), (0, 2), (3, 3)))
+
+
+def drawn_most(draw, chance=0.5):
+    return draw.randrange(4) if draw.random() < chance else None
+
+
+def drawn_lone(draw):
+    """A part without parts."""
+    word = draw.choice(("cell", "cell", "cell", "cell", "need", "pad", "row"))
+    if word == "cell":
+        return ("cell", *drawn_bounds(draw), drawn_manner(draw))
+    if word == "need":
+        return ("need", draw.randrange(1, 4))
+    if word == "pad":
+        return ("pad", draw.choice((2, 2, 3)), drawn_manner(draw))
+    return ("row", ())
+
+
+def drawn_part(draw, deep):
+    """A tuple like a part; it may be none for what is in it."""
+    if deep == 0 or draw.random() < 0.15:
+        return drawn_lone(draw)
+    word = draw.choice(("row", "row", "row", "choice", "times", "counted", "counted", "within", "within", "within",
+                        "fill", "fill", "if left"))
+    if word == "row":
+        return ("row", tuple(drawn_part(draw, deep - 1) for _ in range(draw.randrange(1, 4))))
+    inner = drawn_part(draw, deep - 1)
+    if word == "choice":
+        numbers = sorted(draw.sample(range(4), draw.randrange(1, 3)))
+        return ("choice", drawn_manner(draw), tuple((number, drawn_part(draw, deep - 1)) for number in numbers))
+    if word == "times":
+        return ("times", draw.randrange(0, 4), inner)
+    if word == "counted":
+        return ("counted", drawn_manner(draw), drawn_most(draw), drawn_most(draw), inner)
+    if word == "within":
+        limit = draw.choice(("nested", "cut", "told", "told"))
+        return ("within", drawn_manner(draw), drawn_most(draw), limit, draw.choice(("skip", "exact")), inner)
+    return (word, inner)
+
+
+def drawn_readers(seed, many, deep=4, most_parts=9, most_counted=20):
+    """This many readers with few parts."""
+    draw = random.Random(seed)
+    readers = []
+    while len(readers) < many:
+        part = drawn_part(draw, draw.randrange(1, deep + 1))
+        if is_part(part) and len(subparts(part)) <= most_parts and counted_parts(part) <= most_counted:
+            readers.append(Reader(part))
+    return readers
+
+
+def all_rows(length, cells):
+    """All rows of a length over these cells."""
+    return [list(row) for row in itertools.product(cells, repeat=length)]
