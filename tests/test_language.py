@@ -93,6 +93,35 @@ class Language(unittest.TestCase):
                     for one in node.names:
                         self.assertGreater(len(re.findall(rf"\b{one.name}\b", text)), 1, "not used")
 
+    def test_no_local_name_is_a_class_or_an_import(self):
+        for text, tree in self.each():
+            taken = {name for one in tree.body if isinstance(one, ast.ImportFrom) for name in bound_names(one)}
+            taken |= {one.name for one in tree.body if isinstance(one, ast.ClassDef)}
+            for function in [node for node in ast.walk(tree) if isinstance(node, ast.FunctionDef)]:
+                inner = [name for one in (function.args, *function.body) for name in bound_names(one)]
+                self.assertEqual(taken & set(inner), set(), function.name)
+
+    def test_strings(self):
+        for text, tree in self.each():
+            for node in ast.walk(tree):
+                if isinstance(node, ast.Constant) and isinstance(node.value, str):
+                    self.assertNotIn("%", node.value)
+
+    def test_functions_of_tables_are_called_by_a_name_of_their_own(self):
+        for text, tree in self.each():
+            for node in ast.walk(tree):
+                if isinstance(node, ast.Call):
+                    self.assertIsInstance(node.func, (ast.Name, ast.Attribute))
+
+    def test_what_takes_a_list(self):
+        """A class has operators, so these take no generator, and an order, so they take plain numbers."""
+        for text, tree in self.each():
+            for node in ast.walk(tree):
+                self.assertNotIsInstance(node, ast.GeneratorExp)
+                if isinstance(node, ast.Call) and ast.unparse(node.func) in ("min", "max", "sorted"):
+                    has_plain = any(isinstance(one, ast.Constant) for one in node.args)
+                    self.assertTrue(has_plain or "int(" in ast.unparse(node))
+
     def test_nodes(self):
         for text, tree in self.each():
             for node in ast.walk(tree):

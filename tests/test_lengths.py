@@ -1,50 +1,14 @@
 import unittest
 
 from drawn import KINDS, all_rows, drawn_readers
+from made import BARE, CELL, GREAT, NOTHING, ONE, choice, counted, fill, if_left, pad, row, times, within
 from strange import strange_objects
 from withinlimits.errors import LimitError, NoWord, TooLarge
 from withinlimits.lengths import Verdict, example, lengths_of, verdict_of
 from withinlimits.reading import Reader
 from withinlimits.sets import LengthSet
 
-CELL = ("cell", 0, None, "checked")
-BARE = ("cell", 0, None, "bare")
-ONE = ("cell", 1, 1, "checked")
-NOTHING = ("row", ())
-GREAT = 10 ** 30
 FULL, NONE, ONLY, FROM = LengthSet.full(), LengthSet.none(), LengthSet.only, LengthSet.from_least
-
-
-def row(*parts):
-    return ("row", parts)
-
-
-def fill(part):
-    return ("fill", part)
-
-
-def if_left(part):
-    return ("if left", part)
-
-
-def times(many, part):
-    return ("times", many, part)
-
-
-def counted(part, most=None, ahead=None, manner="checked"):
-    return ("counted", manner, most, ahead, part)
-
-
-def within(part, limit="nested", rest="skip", most=None, manner="checked"):
-    return ("within", manner, most, limit, rest, part)
-
-
-def choice(*parts, manner="checked"):
-    return ("choice", manner, tuple(enumerate(parts)))
-
-
-def pad(many, manner="checked"):
-    return ("pad", many, manner)
 
 
 def repeating(start, period, *rests):
@@ -71,6 +35,19 @@ KNOWN = (
     (counted(row(BARE, BARE), ahead=1), FROM(2), FULL, NONE, NONE),
     (counted(BARE, most=3, ahead=2), FROM(3), FULL, NONE, NONE),
     (row(counted(BARE, ahead=2), BARE, BARE, BARE), FROM(4), FULL, FROM(3), NONE),
+    (counted(CELL, most=0, ahead=2), FROM(3), FULL, NONE, NONE),
+    # Nothing changes with the length for long, and then it does.
+    (("need", 9), FROM(9), FULL - FROM(9), NONE, NONE),
+    (counted(times(6, BARE), most=0, ahead=9), FROM(10), FULL, NONE, NONE),
+    (counted(NOTHING, ahead=9), FROM(10), FULL - FROM(10), NONE, NONE),
+    (row(counted(times(6, ONE), ahead=9), ("need", 1)), FROM(10), FULL, NONE, NONE),
+    (row(counted(row(times(6, BARE), BARE), ahead=9), fill(NOTHING)), NONE, FULL, NONE, FROM(10)),
+    (within(times(6, times(3, BARE))), FROM(19), FULL, FROM(1), NONE),
+    (within(row(times(6, times(3, CELL)), BARE)), FROM(20), FULL, FROM(19), NONE),
+    (within(row(times(6, times(3, CELL)), BARE), "told"), FROM(20), FULL, FROM(1), NONE),
+    (within(fill(CELL), "told", most=20), FROM(1), FULL, FROM(1) - FROM(21), NONE),
+    (within(NOTHING, "nested", "skip", most=20), FROM(1), FULL, NONE, NONE),
+    (fill(within(times(6, times(3, CELL)), rest="exact", most=19)), repeating(0, 19, 0), FROM(1), NONE, NONE),
     (row(counted(("need", 1), ahead=2), times(3, BARE)), FROM(4), ONLY(0, 1, 2), ONLY(3), NONE),
     (fill(CELL), FULL, NONE, NONE, NONE),
     (fill(row(CELL, BARE)), repeating(0, 2, 0), NONE, repeating(0, 2, 1), NONE),
@@ -98,6 +75,9 @@ KNOWN = (
     (within(fill(CELL), "told", most=0), FROM(1), FULL, NONE, NONE),
     (within(NOTHING, "told"), FROM(1), FULL, NONE, NONE),
     (within(fill(NOTHING), "told"), FROM(1), ONLY(0), NONE, FROM(1)),
+    # In a gap nothing is at an end, so a fill in a fill looks on.
+    (within(fill(fill(CELL)), "told"), FROM(1), ONLY(0), FROM(1), NONE),
+    (within(fill(if_left(CELL)), "told"), FROM(1), ONLY(0), FROM(1), NONE),
     (within(within(BARE, "cut"), "nested"), FROM(3), FULL, FROM(2), NONE),
 )
 
@@ -169,6 +149,17 @@ class Drawn(unittest.TestCase):
             self.examples_end_so(reader, range(12))
         for reader in drawn_readers(14, 60, 7, 15, 45):
             self.examples_end_so(reader, (*range(0, 60, 7), 997, 1000))
+
+    def test_examples_with_turns_in_turns(self):
+        for part in (counted(row(counted(CELL, most=1), BARE), most=3), counted(row(counted(CELL, most=1), BARE)),
+                     fill(row(counted(row(counted(ONE), ONE), ahead=None), ("cell", 3, 3, "bare"))),
+                     within(counted(row(counted(times(2, ONE), most=2), times(3, ONE)), most=2), rest="exact")):
+            self.examples_end_so(Reader(part), range(25))
+
+    def test_examples_behind_limits(self):
+        for limit in ("nested", "cut", "told"):
+            self.examples_end_so(Reader(row(within(CELL, limit), fill(times(5, ONE)))), range(25))
+            self.examples_end_so(Reader(fill(row(within(ONE, limit), times(2, ONE), within(ONE, limit, most=3)))), range(25))
 
     def test_equal_calls(self):
         for reader in drawn_readers(15, 40):
@@ -266,6 +257,14 @@ class Large(unittest.TestCase):
         for number in (17, 13, 12, 0):
             self.assertIn(number + 1, lengths)
         self.assertNotIn(2, lengths)
+
+    def test_what_is_found_late(self):
+        """The points repeat with a period, or from a length on, beyond those of sets, but the sets do not."""
+        part = choice(fill(times(5, BARE)), fill(choice(times(6, BARE))), filled(5, 2), fill(times(6, choice(BARE))))
+        lengths = lengths_of(Reader(part), "read")
+        self.assertEqual((lengths.start, lengths.period), (0, 4620))
+        lengths = lengths_of(Reader(row(filled(6, 2), fill(times(6, times(4, BARE))), filled(4, 4))), "read")
+        self.assertEqual((lengths.start, lengths.period, lengths.rests), (0, 13, [0]))
 
     def test_starts(self):
         part = fill(choice(times(4, times(5, CELL)), times(3, times(6, CELL))))

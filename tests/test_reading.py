@@ -1,40 +1,13 @@
 import unittest
 
 from drawn import all_rows, drawn_readers
+from made import BARE, CELL, GREAT, NOTHING, counted, fill, if_left, row, times, within
 from strange import EqualToAll, strange_objects
 from withinlimits.cells import Cursor
 from withinlimits.errors import NoPart, NoRow
 from withinlimits.reading import Outcome, Reader
 
-CELL = ("cell", 0, None, "checked")
-BARE = ("cell", 0, None, "bare")
 ZERO = ("cell", 0, 0, "checked")
-NOTHING = ("row", ())
-GREAT = 10 ** 30
-
-
-def row(*parts):
-    return ("row", parts)
-
-
-def fill(part):
-    return ("fill", part)
-
-
-def if_left(part):
-    return ("if left", part)
-
-
-def times(many, part):
-    return ("times", many, part)
-
-
-def counted(part, most=None, ahead=None, manner="checked"):
-    return ("counted", manner, most, ahead, part)
-
-
-def within(part, limit="nested", rest="skip", most=None, manner="checked"):
-    return ("within", manner, most, limit, rest, part)
 
 
 def nested(part, many):

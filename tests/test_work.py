@@ -1,44 +1,11 @@
 import unittest
 
 from drawn import all_rows, drawn_readers
+from made import BARE, CELL, GREAT, NOTHING, ONE, choice, counted, fill, if_left, row, times, within
 from strange import strange_objects
 from withinlimits.errors import NoWord, TooLarge
 from withinlimits.reading import Reader
 from withinlimits.work import idle_of, most_work
-
-CELL = ("cell", 0, None, "checked")
-BARE = ("cell", 0, None, "bare")
-ONE = ("cell", 1, 1, "checked")
-NOTHING = ("row", ())
-GREAT = 10 ** 30
-
-
-def row(*parts):
-    return ("row", parts)
-
-
-def fill(part):
-    return ("fill", part)
-
-
-def if_left(part):
-    return ("if left", part)
-
-
-def times(many, part):
-    return ("times", many, part)
-
-
-def counted(part, most=None, ahead=None, manner="checked"):
-    return ("counted", manner, most, ahead, part)
-
-
-def within(part, limit="nested", rest="skip", most=None, manner="checked"):
-    return ("within", manner, most, limit, rest, part)
-
-
-def choice(*parts, manner="checked"):
-    return ("choice", manner, tuple(enumerate(parts)))
 
 
 # Parts, and their greatest work for the lengths from 0 on.
@@ -56,6 +23,9 @@ KNOWN = (
     (fill(times(2, CELL)), (0, 4, 5, 9, 10)),
     (fill(NOTHING), (0, 1, 1)),
     (fill(times(3, ("need", 1))), (0, 4, 4)),
+    (fill(times(2, times(3, NOTHING))), (0, 9, 9)),
+    (fill(row(times(2, NOTHING), if_left(times(3, NOTHING)), ("need", 1))), (0, 6)),
+    (fill(row(if_left(row(NOTHING, times(2, ("need", 2)))))), (0, 2, 3)),
     (if_left(times(2, NOTHING)), (0, 2)),
     # The turn in which the reading stops counts.
     (counted(CELL), (0, 2, 4, 6)),
@@ -77,6 +47,11 @@ KNOWN = (
     (within(fill(CELL), most=1), (0, 1, 3, 3)),
     (row(within(CELL), within(fill(CELL))), (0, 1, 2, 3, 5, 7)),
     (within(times(2, CELL), "nested", "exact"), (0, 2, 4, 5, 5)),
+    # Only with the right length no cell is left for the need, so that the turns are reached.
+    (row(within(CELL, "nested", "exact"), if_left(("need", 9)), times(5, NOTHING)), (0, 1, 7, 2, 2)),
+    (row(within(CELL, "nested", "skip"), if_left(("need", 9)), times(5, NOTHING)), (0, 1, 7, 7, 7)),
+    (row(within(within(fill(CELL), "told")), times(5, NOTHING)), (0, 1, 7, 9, 11)),
+    (row(within(row(within(fill(CELL)), ("need", 9))), times(5, NOTHING)), (0, 1, 2, 4, 6)),
     # Of a length told beyond the row each turn but the last looks at a cell.
     (within(fill(CELL), "told"), (0, 2, 4, 6)),
     (within(fill(CELL), "told", most=1), (0, 2, 3, 3)),

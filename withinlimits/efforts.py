@@ -67,15 +67,13 @@ def work_enter(effort, now, before, left, point):
 
 
 def work_count(effort, now, before, left, point):
-    return greater(now[point[4]], effort.stopped)
+    return greater(now[point[2]], effort.stopped)
 
 
 def work_loop(effort, now, before, left, point):
     word, leave, enter, inner, body, behind = point
     work = now[behind] if left >= leave else NO
-    if left >= enter and is_idle(effort, inner, left):
-        return both(work, ENDLESS)
-    return work
+    return both(work, ENDLESS) if is_idle(effort, inner, left) else work
 
 
 def work_fill(effort, now, before, left, point):
@@ -83,7 +81,7 @@ def work_fill(effort, now, before, left, point):
     if left == 0 and not effort.layout.is_gap:
         return now[behind]
     if is_idle(effort, inner, left):
-        return both(effort.stopped, 1 + idle_turns(inner, effort.layout, left))
+        return both(effort.stopped, 1 + idle_turns(inner))
     return NO
 
 

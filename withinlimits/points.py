@@ -114,8 +114,9 @@ def lay_counted(layout, part, path, behind):
         turns = lay_loop(layout, inner, (*path, 0), behind, leave, leave + size)
     else:
         turns = lay_turns(layout, inner, (*path, 0), behind, leave, leave + size, most)
-    counted = add_point(layout, ("count", most, size, leave, turns))
-    return lay_look(layout, manner, 0, None if most is None else most + 1, counted)
+    # Below so many cells left the count can be too great for them. With a most, one above it is refused anyway.
+    bound = None if most is None and size > 0 else leave
+    return lay_look(layout, manner, 0, None if most is None else most + 1, add_point(layout, ("count", bound, turns)))
 
 
 def lay_within(layout, part, path, behind):
@@ -178,14 +179,6 @@ def layout_at(study, place, is_gap):
     return study.layouts[(place, is_gap)]
 
 
-def short_bound(point):
-    """The number of cells below which a count can be refused as too short; None if with any number."""
-    word, most, size, ahead, turns = point
-    if most is None:
-        return ahead if size == 0 else None
-    return most * size + ahead
-
-
 def zero_mask(many, rhythm, left):
     """For which rests of what the limit has in all, with so many cells left, a multiple of many lies behind."""
     mask = 0
@@ -215,13 +208,10 @@ def idle_mask(part, layout, left):
     return idle_mask(part[1], layout, left) if word == "if left" else 0
 
 
-def idle_turns(part, layout, left):
-    """How many turns there are in a part that is read without a look."""
-    word = part[0]
-    if word == "row":
-        return sum([idle_turns(inner, layout, left) for inner in part[1]])
-    if word == "times":
-        return part[1] * (1 + idle_turns(part[2], layout, left))
-    if word == "if left" and (left > 0 or layout.is_gap):
-        return idle_turns(part[1], layout, left)
-    return 0
+def idle_turns(part):
+    """How many turns there are in a part that is read without a look, with cells left."""
+    if part[0] == "row":
+        return sum([idle_turns(inner) for inner in part[1]])
+    if part[0] == "times":
+        return part[1] * (1 + idle_turns(part[2]))
+    return idle_turns(part[1]) if part[0] == "if left" else 0

@@ -8,7 +8,7 @@ the stages repeat as soon as one comes back; thus the set of lengths is exact.
 
 from withinlimits.errors import TooLarge
 from withinlimits.plain import common_multiple
-from withinlimits.points import idle_mask, layout_at, short_bound, zero_mask
+from withinlimits.points import idle_mask, layout_at, zero_mask
 from withinlimits.sets import LengthSet, least_period, least_start
 
 MOST_STAGES = 20000
@@ -145,8 +145,8 @@ def mark_enter(table, now, before, left, index, point):
 
 
 def mark_count(table, now, before, left, index, point):
-    bound = short_bound(point)
-    return now[point[4]] | table.refused if bound is None or left < bound else now[point[4]]
+    word, bound, turns = point
+    return now[turns] | table.refused if bound is None or left < bound else now[turns]
 
 
 def mark_loop(table, now, before, left, index, point):
@@ -212,7 +212,7 @@ def mark_within(table, now, before, left, index, point):
         return table.whole
     if most is not None and left >= most:
         return mark
-    if limit == "told" and left in known.gaps:
+    if left in known.gaps:
         return table.whole
     return mark | table.refused if limit == "nested" else mark
 
@@ -270,13 +270,9 @@ def horizon(table):
     most = 1
     for point in table.layout.points:
         bounds = [0]
-        if point[0] in ("need", "leave"):
+        if point[0] in ("need", "leave", "count"):
             bounds = [point[1]]
-        if point[0] in ("enter", "loop"):
-            bounds = [point[2]]
-        if point[0] == "count":
-            bounds = [short_bound(point)]
-        if point[0] == "within":
+        if point[0] in ("enter", "loop", "within"):
             bounds = [point[2]]
         most = max([int(bound) for bound in (most, *bounds) if bound is not None])
     for known in table.limits.values():

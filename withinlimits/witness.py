@@ -1,6 +1,6 @@
 """Rows with which a reading ends as asked, made along the marks of tables."""
 
-from withinlimits.points import idle_mask, short_bound, zero_mask
+from withinlimits.points import idle_mask, zero_mask
 from withinlimits.tables import can_end, has_mark, has_turn, passing, stops_inside, table_at
 
 
@@ -103,10 +103,9 @@ def write_loop(writer, place, point):
 
 
 def write_count(writer, place, point):
-    word, most, size, ahead, turns = point
-    bound = short_bound(point)
+    word, bound, turns = point
     if place.table.kind == "refused" and (bound is None or place.cells_left < bound):
-        writer.cells[-1] = place.cells_left + 1 if most is None else most
+        writer.cells[-1] = place.cells_left + 1
         writer.has_stopped = True
     else:
         writer.going.append(len(writer.cells) - 1)
@@ -176,7 +175,7 @@ def write_within(writer, place, point):
         writer.has_stopped = True
     elif stops_inside(known, most, left):
         write_stopped(writer, place, known.least_stop, known.stop_key, known.least_stop)
-    elif limit == "told" and can_be_more and left in known.gaps:
+    elif can_be_more and left in known.gaps:
         write_stopped(writer, place, left + 1, known.gap_key, left)
     else:
         write_passed(writer, place, point)
