@@ -151,7 +151,8 @@ class Drawn(unittest.TestCase):
             self.examples_end_so(reader, (*range(0, 60, 7), 997, 1000))
 
     def test_examples_with_turns_in_turns(self):
-        for part in (counted(row(counted(CELL, most=1), BARE), most=3), counted(row(counted(CELL, most=1), BARE)),
+        for part in (counted(CELL, ahead=0), counted(NOTHING, ahead=2), counted(times(3, BARE), ahead=1),
+                     counted(row(counted(CELL, most=1), BARE), most=3), counted(row(counted(CELL, most=1), BARE)),
                      fill(row(counted(row(counted(ONE), ONE), ahead=None), ("cell", 3, 3, "bare"))),
                      within(counted(row(counted(times(2, ONE), most=2), times(3, ONE)), most=2), rest="exact")):
             self.examples_end_so(Reader(part), range(25))

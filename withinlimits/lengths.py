@@ -3,7 +3,7 @@
 from withinlimits.errors import NoWord
 from withinlimits.plain import is_from, is_one_of
 from withinlimits.reading import check_reader
-from withinlimits.tables import KINDS, asked, can_end, lengths_at, table_at
+from withinlimits.tables import KINDS, asked, lengths_at
 from withinlimits.witness import written
 
 MOST_LENGTH = 1000
@@ -28,7 +28,7 @@ def example(reader, kind, length):
     check_kind(kind)
     if not is_from(length, 0, MOST_LENGTH):
         raise NoWord(length)
-    if not can_end(table_at(reader.study, asked(kind)), length):
+    if length not in lengths_of(reader, kind):
         return None
     return written(reader.study, asked(kind), length).cells
 

@@ -71,7 +71,7 @@ class Table:
         self.lengths = None
         self.limits = {}
         self.width = len(layout.points)
-        for index, point in enumerate(layout.points):
+        for index, point in enumerate(list(layout.points)):
             if point[0] == "within":
                 known = within_of(study, self, point)
                 self.limits[index] = known
@@ -89,7 +89,7 @@ def within_of(study, table, point):
     known = Within(skips, stop_key, gap_key)
     if table.kind != "read":
         known.least_stop = lengths_at(study, stop_key).least()
-        if limit == "told" and most != 0:
+        if limit == "told":
             known.gaps = lengths_at(study, gap_key)
     return known
 

@@ -1,7 +1,7 @@
 """Rows with which a reading ends as asked, made along the marks of tables."""
 
 from withinlimits.points import idle_mask, zero_mask
-from withinlimits.tables import can_end, has_mark, has_turn, passing, stops_inside, table_at
+from withinlimits.tables import can_end, has_mark, passing, stops_inside, table_at
 
 
 class Writer:
@@ -97,8 +97,7 @@ def write_loop(writer, place, point):
         place.index = behind
         return
     write_one_turn(writer, place, body)
-    is_idle = has_rest(place, idle_mask(inner, place.table.layout, place.cells_left))
-    if place.table.kind == "idle" and has_turn(place.table.layout, point, place.cells_left) and is_idle:
+    if place.table.kind == "idle" and has_rest(place, idle_mask(inner, place.table.layout, place.cells_left)):
         writer.has_stopped = True
 
 
