@@ -3,7 +3,7 @@
 import itertools
 import random
 
-from withinlimits.parts import counted_parts, is_part, subparts
+from withinlimits.parts import counted_parts, is_part, parts_of, subparts
 from withinlimits.reading import Reader
 
 KINDS = ("read", "refused", "beyond", "endless")
@@ -69,3 +69,63 @@ def drawn_readers(seed, many, deep=4, most_parts=9, most_counted=20):
 def all_rows(length, cells):
     """All rows of a length over these cells."""
     return [list(row) for row in itertools.product(cells, repeat=length)]
+
+
+def spread(part):
+    """The spread of a part: how large it is for what is decided for all rows."""
+    if part[0] in ("need", "pad"):
+        return part[1]
+    many = part[1] if part[0] == "times" else 1
+    most = None
+    if part[0] in ("counted", "within"):
+        most = part[2]
+    if part[0] == "counted" and most is not None:
+        many = most
+    total = 1 + many * sum(spread(inner) for inner in parts_of(part))
+    if part[0] == "counted" and part[3] is not None:
+        total = total + part[3]
+    if part[0] == "within" and most is not None:
+        total = total + most
+    return total
+
+
+def limits_in_one_another(part):
+    return max([limits_in_one_another(inner) for inner in parts_of(part)] + [0]) + (part[0] == "within")
+
+
+def large_part(draw, deep):
+    """A tuple like a part, with many cells in its turns."""
+    word = draw.choice(("cell", "cell", "row", "row", "choice", "choice", "times", "times", "times", "counted", "within",
+                        "within", "fill", "fill", "fill", "if left", "need", "pad"))
+    if deep == 0 or word == "cell":
+        return ("cell", draw.choice((0, 0, 1)), draw.choice((None, 5)), drawn_manner(draw))
+    if word == "need":
+        return ("need", draw.randrange(1, 10))
+    if word == "pad":
+        return ("pad", draw.choice((2, 3)), drawn_manner(draw))
+    if word == "row":
+        return ("row", tuple(large_part(draw, deep - 1) for _ in range(draw.randrange(1, 4))))
+    if word == "choice":
+        parts = [large_part(draw, deep - 1) for _ in range(draw.randrange(1, 4))]
+        return ("choice", drawn_manner(draw), tuple(enumerate(parts)))
+    inner = large_part(draw, deep - 1)
+    if word == "times":
+        return ("times", draw.randrange(2, 7), inner)
+    if word == "counted":
+        return ("counted", drawn_manner(draw), draw.choice((None, None, 2, 9)), draw.choice((None, None, 0, 9)), inner)
+    if word == "within":
+        limit = draw.choice(("nested", "cut", "told"))
+        return ("within", drawn_manner(draw), draw.choice((None, None, 20)), limit, draw.choice(("skip", "exact")), inner)
+    return (word, inner)
+
+
+def large_readers(seed, many):
+    """This many readers about as large as those for which nothing is too large."""
+    draw = random.Random(seed)
+    readers = []
+    while len(readers) < many:
+        part = large_part(draw, 7)
+        if (is_part(part) and 8 <= len(subparts(part)) <= 15 and 25 <= spread(part) <= 54
+                and limits_in_one_another(part) <= 2):
+            readers.append(Reader(part))
+    return readers

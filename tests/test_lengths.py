@@ -1,6 +1,6 @@
 import unittest
 
-from drawn import KINDS, all_rows, drawn_readers
+from drawn import KINDS, all_rows, drawn_readers, large_readers
 from made import BARE, CELL, GREAT, NOTHING, ONE, choice, counted, fill, if_left, pad, row, times, within
 from strange import strange_objects
 from withinlimits.errors import LimitError, NoWord, TooLarge
@@ -287,6 +287,17 @@ class Large(unittest.TestCase):
                     self.assertEqual(cells is not None, length in lengths)
                     if cells is not None:
                         self.assertEqual((reader(cells).kind, len(cells)), (kind, length))
+
+    def test_drawn(self):
+        for reader in large_readers(18, 60):
+            self.assertEqual(bool(Verdict(reader)), not lengths_of(reader, "beyond"))
+            for kind in KINDS:
+                lengths = lengths_of(reader, kind)
+                for length in (0, 7, 19, 20, 53, 54, 55, 1000):
+                    cells = example(reader, kind, length)
+                    self.assertEqual(cells is not None, length in lengths)
+                    if cells is not None:
+                        self.assertEqual((reader(cells).kind, len(cells)), (kind, length), reader.part)
 
     def test_too_large(self):
         part = CELL

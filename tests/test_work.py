@@ -1,9 +1,10 @@
 import unittest
 
-from drawn import all_rows, drawn_readers
+from drawn import KINDS, all_rows, drawn_readers, large_readers
 from made import BARE, CELL, GREAT, NOTHING, ONE, choice, counted, fill, if_left, row, times, within
 from strange import strange_objects
 from withinlimits.errors import NoWord, TooLarge
+from withinlimits.lengths import example
 from withinlimits.reading import Reader
 from withinlimits.work import idle_of, most_work
 
@@ -92,6 +93,17 @@ class MostWork(unittest.TestCase):
                 self.assertEqual(most_work(reader, length), wanted, (reader.part, length))
                 seen.append(wanted)
         self.assertIn(None, seen)
+
+    def test_large(self):
+        for reader in large_readers(25, 60):
+            works = [most_work(reader, length) for length in range(61)]
+            idle = idle_of(reader)
+            self.assertEqual(None in works, idle is not None and len(idle[0]) <= 60, reader.part)
+            for length in (3, 20, 60):
+                for kind in KINDS:
+                    cells = example(reader, kind, length)
+                    if cells is not None and works[length] is not None:
+                        self.assertLessEqual(reader(cells).work, works[length])
 
     def test_no_words(self):
         reader = Reader(CELL)
