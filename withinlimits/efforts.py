@@ -6,8 +6,9 @@ reading counts; from ENDLESS on the work grows with a number in the row.
 """
 
 from withinlimits.errors import TooLarge
-from withinlimits.points import idle_mask, idle_turns, layout_at
-from withinlimits.tables import MOST_MARKS, body_of, has_turn
+from withinlimits.marks import body_of, has_turn
+from withinlimits.points import idle_mask, idle_turns
+from withinlimits.tables import MOST_MARKS
 
 NO = -1
 ENDLESS = 10 ** 40
@@ -156,7 +157,7 @@ def add_effort(effort):
 
 def greatest_work(study, place, ends, is_gap, length):
     """The greatest work within the limit at a place with this length, or in a gap of it; NO if no reading counts."""
-    layout = layout_at(study, place, is_gap)
+    layout = study.laid_out(place, is_gap)
     rest = length % layout.rhythm
     key = (place, ends, is_gap, rest)
     if key not in study.efforts:

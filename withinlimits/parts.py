@@ -4,6 +4,8 @@ from withinlimits.cells import LIMITS, RESTS
 from withinlimits.plain import is_from, is_from_or_none, is_one_of
 
 MANNERS = ("checked", "bare")
+# The parts that look at cells themselves, with the places of their manners.
+MANNER_AT = {"cell": 3, "choice": 1, "counted": 1, "within": 1, "pad": 2}
 HOLDERS = ("times", "counted", "within", "fill", "if left")
 MOST_CELL_BOUND = 10 ** 6
 MOST_DEEP = 8
@@ -175,6 +177,34 @@ def part_at(part, path):
     for index in path:
         part = parts_of(part)[index]
     return part
+
+
+def leads(part, path):
+    """Whether any object is a path that leads to a part in this one."""
+    if not isinstance(path, tuple):
+        return False
+    for index in path:
+        parts = parts_of(part)
+        if not is_from(index, 0, len(parts) - 1):
+            return False
+        part = parts[index]
+    return True
+
+
+def limits_around(part, path):
+    """The paths of the withins in which the part at a path is, the outermost one first."""
+    ahead = [path[:many] for many in range(len(path))]
+    return [one for one in ahead if part_at(part, one)[0] == "within"]
+
+
+def is_in_told(part, path):
+    """Whether the part at a path is in a told limit."""
+    return any([part_at(part, one)[3] == "told" for one in limits_around(part, path)])
+
+
+def with_field(part, place, value):
+    """The part with a value in one of its places."""
+    return (*part[:place], value, *part[place + 1:])
 
 
 def replaced(part, path, other):

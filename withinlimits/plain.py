@@ -22,9 +22,24 @@ def is_one_of(value, words):
     return isinstance(value, str) and value in words
 
 
-def common_multiple(one, two):
-    """The least common multiple of two integers from 1 on."""
+def common_divisor(one, two):
+    """The greatest common divisor of two integers from 1 on."""
     greatest, rest = one, two
     while rest > 0:
         greatest, rest = rest, greatest % rest
-    return one // greatest * two
+    return greatest
+
+
+def common_multiple(one, two):
+    """The least common multiple of two integers from 1 on."""
+    return one // common_divisor(one, two) * two
+
+
+def index_lists(many):
+    """All lists of ascending indexes below many, shorter ones first, those of one length in order."""
+    lists = [[]]
+    longest = [[]]
+    while len(longest) > 0:
+        longest = [[*one, index] for one in longest for index in range(one[-1] + 1 if len(one) > 0 else 0, many)]
+        lists = lists + longest
+    return lists

@@ -34,6 +34,7 @@ class Layout:
     def __init__(self, part, path, is_gap):
         self.points = [("end",)]
         self.is_gap = is_gap
+        self.is_by_places = False
         self.rhythm = rhythm_of(part)
         self.first = lay(self, part, path, 0)
 
@@ -170,13 +171,12 @@ class Study:
         self.tables = {}
         self.efforts = {}
 
-
-def layout_at(study, place, is_gap):
-    """The layout of what lies within the limit at a place: the path of a within, or None for the row."""
-    if (place, is_gap) not in study.layouts:
-        path = () if place is None else (*place, 0)
-        study.layouts[(place, is_gap)] = Layout(part_at(study.part, path), path, is_gap)
-    return study.layouts[(place, is_gap)]
+    def laid_out(self, place, is_gap):
+        """The layout of what lies within the limit at a place: the path of a within, or None for the row."""
+        if (place, is_gap) not in self.layouts:
+            path = () if place is None else (*place, 0)
+            self.layouts[(place, is_gap)] = Layout(part_at(self.part, path), path, is_gap)
+        return self.layouts[(place, is_gap)]
 
 
 def zero_mask(many, rhythm, left):

@@ -7,8 +7,8 @@ the stages repeat as soon as one comes back; thus the set of lengths is exact.
 """
 
 from withinlimits.errors import TooLarge
+from withinlimits.marks import mark_points
 from withinlimits.plain import common_multiple
-from withinlimits.points import idle_mask, layout_at, zero_mask
 from withinlimits.sets import LengthSet, least_period, least_start
 
 MOST_STAGES = 20000
@@ -48,12 +48,14 @@ class Within:
     gap with as many cells left up to the end of what is around as gaps has.
     """
 
-    def __init__(self, skips, stop_key, gap_key):
-        self.skips = skips
-        self.stop_key = stop_key
-        self.gap_key = gap_key
+    def __init__(self, study, point, limit, keys):
+        self.study = study
+        self.most = point[2]
+        self.limit = limit
+        self.pass_key, self.stop_key, self.gap_key = keys
         self.least_stop = None
         self.gaps = LengthSet.none()
+        self.skips = None
 
 
 class Table:
@@ -61,42 +63,75 @@ class Table:
 
     def __init__(self, study, layout, kind, ends):
         whole = (1 << layout.rhythm) - 1
+        self.study = study
         self.layout = layout
         self.kind = kind
         self.ends = ends
         self.whole = whole
         self.refused = whole if kind == "refused" else 0
-        self.beyond = whole if kind == "beyond" else 0
+        self.beyond = whole if kind in ("beyond", "stuck", "parted") else 0
+        self.endless = whole if kind in ("endless", "stuck", "parted") else 0
+        # Of two readers held against each other by places, one that looks on is parted from one that was refused.
+        self.last_look = self.beyond if layout.is_by_places else None
         self.stages = []
         self.lengths = None
         self.limits = {}
         self.width = len(layout.points)
         for index, point in enumerate(list(layout.points)):
-            if point[0] == "within":
-                known = within_of(study, self, point)
+            if point[0] in LIMITS_IN_TABLES:
+                known = limit_in(self, point)
                 self.limits[index] = known
                 self.width = self.width + len(known.skips.ends)
 
 
-def within_of(study, table, point):
-    """What a table needs to know of a limit in it."""
-    word, place, most, limit, rest, behind = point
-    skips = Skips(lengths_at(study, passing(place, rest)), most, table.whole, behind)
-    is_refusal = table.kind == "refused"
+def within_of(table, point):
+    """A limit in a table of one reader."""
+    return limit_of_one(table.study, point, table.kind)
+
+
+def side_within_of(table, point):
+    """A limit for one of two readers, that goes on alone."""
+    kind = "stuck" if table.kind == "parted" else "read"
+    return limit_of_one(table.study.sides[point[6]], point, kind)
+
+
+def limit_of_one(study, point, kind):
+    """A limit in a table for one reader, for readings that are to end so."""
+    word, place, most, limit, rest = point[:5]
+    is_refusal = kind == "refused"
     late = "left over" if is_refusal and rest == "exact" else "never"
-    stop_key = (place, table.kind, late, False)
-    gap_key = (place, table.kind, "always" if is_refusal else "never", True)
-    known = Within(skips, stop_key, gap_key)
-    if table.kind != "read":
-        known.least_stop = lengths_at(study, stop_key).least()
-        if limit == "told":
-            known.gaps = lengths_at(study, gap_key)
+    stop_key = None if kind == "read" else (place, kind, late, False)
+    gap_key = (place, kind, "always" if is_refusal else "never", True)
+    has_gap = kind != "read" and limit == "told"
+    return Within(study, point, limit, (passing(place, rest), stop_key, gap_key if has_gap else None))
+
+
+def twin_within_of(table, point):
+    """A limit for two readers that read alike up to it, behind which both go on or one alone."""
+    word, place, most, rest, reader, behind = point
+    study = table.study
+    # By places one that goes on alone has not looked on yet, so it must be at the end.
+    is_held = study.is_by_places and reader != "both"
+    pass_key = (place, reader, "at end" if is_held or rest == "exact" else "always", False)
+    stop_key = (place, "parted", "left over" if study.is_by_places else "never", False)
+    stops = table.kind == "parted" and reader == "both"
+    return Within(study, point, "twin", (pass_key, stop_key if stops else None, None))
+
+
+LIMITS_IN_TABLES = {"within": within_of, "side within": side_within_of, "twin within": twin_within_of}
+
+
+def limit_in(table, point):
+    """What a table needs to know of a limit in it."""
+    action = LIMITS_IN_TABLES[point[0]]
+    known = action(table, point)
+    behind = point[5]
+    known.skips = Skips(lengths_at(known.study, known.pass_key), known.most, table.whole, behind)
+    if known.stop_key is not None:
+        known.least_stop = lengths_at(known.study, known.stop_key).least()
+    if known.gap_key is not None:
+        known.gaps = lengths_at(known.study, known.gap_key)
     return known
-
-
-def stops_inside(known, most, left):
-    """Whether there is a length, not above most, with which the reading can end as asked within a limit."""
-    return known.least_stop is not None and known.least_stop <= left and (most is None or known.least_stop <= most)
 
 
 def passing(place, rest):
@@ -107,130 +142,6 @@ def passing(place, rest):
 def asked(kind):
     """The key of the table for the readings of rows that end so."""
     return (None, kind, "always" if kind == "read" else "never", False)
-
-
-def mark_end(table, now, before, left, index, point):
-    if table.ends == "always" or (table.ends == "at end" and left == 0) or (table.ends == "left over" and left > 0):
-        return table.whole
-    return 0
-
-
-def mark_look(table, now, before, left, index, point):
-    word, is_checked, good, bad, behind = point
-    if left == 0:
-        return table.refused if is_checked else table.beyond
-    return before[behind] if bad is None else before[behind] | table.refused
-
-
-def mark_choice(table, now, before, left, index, point):
-    mark = 0
-    for inner in point[2]:
-        mark = mark | now[inner]
-    return mark
-
-
-def mark_turn(table, now, before, left, index, point):
-    return now[point[1]]
-
-
-def mark_leave(table, now, before, left, index, point):
-    word, leave, behind = point
-    return now[behind] if left >= leave else 0
-
-
-def mark_enter(table, now, before, left, index, point):
-    word, leave, enter, body, behind = point
-    mark = now[behind] if left >= leave else 0
-    return mark | now[body] if left >= enter else mark
-
-
-def mark_count(table, now, before, left, index, point):
-    word, bound, turns = point
-    return now[turns] | table.refused if bound is None or left < bound else now[turns]
-
-
-def mark_loop(table, now, before, left, index, point):
-    word, leave, enter, inner, body, behind = point
-    mark = now[behind] if left >= leave else 0
-    if table.kind == "idle" and left >= enter:
-        mark = mark | idle_mask(inner, table.layout, left)
-    return mark
-
-
-def mark_fill(table, now, before, left, index, point):
-    word, inner, body, behind = point
-    if left == 0 and not table.layout.is_gap:
-        return now[behind]
-    return idle_mask(inner, table.layout, left) if table.kind == "endless" else 0
-
-
-def has_turn(layout, loop, left):
-    """Whether a loop can have one more turn with so many cells left."""
-    if loop[0] == "loop":
-        return left >= loop[2]
-    return left > 0 or layout.is_gap
-
-
-def body_of(loop):
-    """The first point of the turns of a loop."""
-    return loop[-2]
-
-
-def mark_again(table, now, before, left, index, point):
-    opening = point[1]
-    loop = table.layout.points[opening]
-    if has_turn(table.layout, loop, left):
-        mark = now[opening] | now[body_of(loop)]
-        if mark != now[opening]:
-            now[opening] = mark
-            # Points of the turn from which it can end without a look have seen a part of this mark.
-            mark_points(table, now, before, left, opening + 1, index)
-    return 0
-
-
-def mark_if_left(table, now, before, left, index, point):
-    word, inner, behind = point
-    return now[inner] if left > 0 or table.layout.is_gap else now[behind]
-
-
-def mark_need(table, now, before, left, index, point):
-    word, many, behind = point
-    return now[behind] if left >= many else table.refused
-
-
-def mark_pad(table, now, before, left, index, point):
-    word, many, behind, look = point
-    zeros = zero_mask(many, table.layout.rhythm, left)
-    return zeros & now[behind] | (table.whole - zeros) & now[look]
-
-
-def mark_within(table, now, before, left, index, point):
-    word, place, most, limit, rest, behind = point
-    known = table.limits[index]
-    mark = known.skips.ends[0] & now[behind] | known.skips.waiting[0]
-    if stops_inside(known, most, left):
-        return table.whole
-    if most is not None and left >= most:
-        return mark
-    if left in known.gaps:
-        return table.whole
-    return mark | table.refused if limit == "nested" else mark
-
-
-MARKERS = {
-    "end": mark_end, "look": mark_look, "choice": mark_choice, "turn": mark_turn, "leave": mark_leave,
-    "enter": mark_enter, "count": mark_count, "loop": mark_loop, "fill": mark_fill, "again": mark_again,
-    "if left": mark_if_left, "need": mark_need, "pad": mark_pad, "within": mark_within,
-}
-
-
-def mark_points(table, now, before, left, low, high):
-    """Decide the points from low to below high for so many cells left."""
-    points = table.layout.points
-    for index in range(low, high):
-        point = points[index]
-        action = MARKERS[point[0]]
-        now[index] = action(table, now, before, left, index, point)
 
 
 def add_stage(table):
@@ -265,16 +176,24 @@ def can_end(table, length):
     return has_mark(table, table.layout.first, length, length)
 
 
+def bounds_of(point):
+    """The numbers of cells left from which on a point asks for nothing more of what is left."""
+    word = point[0]
+    if word in ("need", "leave", "count"):
+        return [point[1]]
+    if word in ("enter", "loop", "within", "side within", "twin within", "twin need"):
+        return [point[2]]
+    if word in ("late", "late count"):
+        ahead, high, size, most = point[1:5]
+        return [high + (0 if most is None else most) * size, (0 if ahead is None else ahead) + size]
+    return []
+
+
 def horizon(table):
     """A number of cells left from which on each stage is made of the one ahead in the same way."""
     most = 1
     for point in table.layout.points:
-        bounds = [0]
-        if point[0] in ("need", "leave", "count"):
-            bounds = [point[1]]
-        if point[0] in ("enter", "loop", "within"):
-            bounds = [point[2]]
-        most = max([int(bound) for bound in (most, *bounds) if bound is not None])
+        most = max([int(bound) for bound in (most, *bounds_of(point)) if bound is not None])
     for known in table.limits.values():
         least_stop = 0 if known.least_stop is None else known.least_stop
         most = max(int(most), int(least_stop), int(known.gaps.start))
@@ -286,6 +205,9 @@ def modulus(table):
     number = table.layout.rhythm
     for known in table.limits.values():
         number = common_multiple(number, known.gaps.period)
+    for point in table.layout.points:
+        if point[0] == "late count" and point[3] > 0:
+            number = common_multiple(number, point[3])
     return number
 
 
@@ -311,6 +233,15 @@ def repeat_of(table):
             start, state, wait = len(table.stages) - 1, state_of(table), 2 * wait
 
 
+def least_length(table):
+    """The least length with which a reading can end as asked, or None."""
+    start, period = repeat_of(table)
+    for length in range(start + period):
+        if can_end(table, length):
+            return length
+    return None
+
+
 def lengths_of_table(table):
     """The set of all lengths with which a reading can end as asked."""
     start, period = repeat_of(table)
@@ -327,7 +258,7 @@ def table_at(study, key):
     """The table with a key: the place of a limit, the kind of ending, which ends count, and whether in a gap."""
     place, kind, ends, is_gap = key
     if key not in study.tables:
-        study.tables[key] = Table(study, layout_at(study, place, is_gap), kind, ends)
+        study.tables[key] = Table(study, study.laid_out(place, is_gap), kind, ends)
     return study.tables[key]
 
 

@@ -2,13 +2,12 @@
 
 from withinlimits.cells import LIMITS, RESTS
 from withinlimits.errors import NoText
-from withinlimits.parts import parts_of
+from withinlimits.parts import MANNER_AT, parts_of
 from withinlimits.reading import Reader
 
 STEP = 2
 MOST_BLANKS = 40
 MOST_DIGITS = 7
-LOOKS = ("cell", "choice", "counted", "within", "pad")
 LONE_HOLDERS = ("times", "counted", "within", "fill", "if left", "option")
 
 
@@ -46,14 +45,11 @@ SHOWN = {
     "pad": show_word_and_number,
 }
 
-MANNER_AT = {"cell": 3, "choice": 1, "counted": 1, "within": 1, "pad": 2}
-
-
 def line_of(part):
     """The line of a part itself, without the blanks ahead."""
     action = SHOWN[part[0]]
     line = action(part)
-    if part[0] in LOOKS and part[MANNER_AT[part[0]]] == "bare":
+    if part[0] in MANNER_AT and part[MANNER_AT[part[0]]] == "bare":
         return "bare " + line
     return line
 
@@ -149,7 +145,7 @@ def head_of(text):
     if words[0] == "bare":
         words = words[1:]
         manner = "bare"
-    if len(words) == 0 or words[0] not in HEADS or (manner == "bare" and words[0] not in LOOKS):
+    if len(words) == 0 or words[0] not in HEADS or (manner == "bare" and words[0] not in MANNER_AT):
         return None
     action = HEADS[words[0]]
     return action(words, manner)

@@ -1,7 +1,8 @@
 """Rows with which a reading ends as asked, made along the marks of tables."""
 
+from withinlimits.marks import can_leave_late, late_count, stops_inside
 from withinlimits.points import idle_mask, zero_mask
-from withinlimits.tables import can_end, has_mark, passing, stops_inside, table_at
+from withinlimits.tables import can_end, has_mark, table_at
 
 
 class Writer:
@@ -39,6 +40,13 @@ def write_end(writer, place, point):
     place.index = None
 
 
+def write_cell(writer, place, cell, behind):
+    """Go on behind one more cell."""
+    writer.cells.append(cell)
+    place.cells_left = place.cells_left - 1
+    place.index = behind
+
+
 def write_look(writer, place, point):
     word, is_checked, good, bad, behind = point
     if place.cells_left == 0:
@@ -47,9 +55,8 @@ def write_look(writer, place, point):
         writer.cells.append(bad)
         writer.has_stopped = True
     else:
-        writer.cells.append(good)
-        place.cells_left = place.cells_left - 1
-        place.index = behind
+        write_cell(writer, place, good, behind)
+        writer.has_stopped = bool(place.table.last_look)
 
 
 def write_choice(writer, place, point):
@@ -116,7 +123,7 @@ def write_fill(writer, place, point):
     layout = place.table.layout
     if place.cells_left == 0 and not layout.is_gap:
         place.index = behind
-    elif place.table.kind == "endless" and has_rest(place, idle_mask(inner, layout, place.cells_left)):
+    elif place.table.endless and has_rest(place, idle_mask(inner, layout, place.cells_left)):
         writer.has_stopped = True
     else:
         place.index = body
@@ -141,10 +148,10 @@ def write_pad(writer, place, point):
     place.index = behind if has_rest(place, zeros) else look
 
 
-def write_passed(writer, place, point):
+def write_passed(writer, place, known):
     """Go through a limit of the least length with which the reading can end as asked behind it."""
-    word, path, most, limit, rest, behind = point
-    inner = table_at(writer.study, passing(path, rest))
+    inner = table_at(known.study, known.pass_key)
+    behind = known.skips.after
     many = 0
     while not can_end(inner, many) or not holds(place, behind, place.cells_left - many):
         many = many + 1
@@ -156,34 +163,78 @@ def write_passed(writer, place, point):
     place.index = behind
 
 
-def write_stopped(writer, place, many, key, length):
+def write_stopped(writer, table, many, length):
     """Stop within a limit of so many cells, of which length can be read."""
     writer.cells[-1] = many
-    write_within_limit(writer, table_at(writer.study, key), length)
+    write_within_limit(writer, table, length)
     writer.has_stopped = True
 
 
 def write_within(writer, place, point):
-    word, path, most, limit, rest, behind = point
-    table = place.table
-    known = table.limits[place.index]
+    known = place.table.limits[place.index]
     left = place.cells_left
-    can_be_more = most is None or left < most
-    if table.kind == "refused" and limit == "nested" and can_be_more:
+    can_be_more = known.most is None or left < known.most
+    if place.table.kind == "refused" and known.limit == "nested" and can_be_more:
         writer.cells[-1] = left + 1
         writer.has_stopped = True
-    elif stops_inside(known, most, left):
-        write_stopped(writer, place, known.least_stop, known.stop_key, known.least_stop)
+    elif stops_inside(known, left):
+        write_stopped(writer, table_at(known.study, known.stop_key), known.least_stop, known.least_stop)
     elif can_be_more and left in known.gaps:
-        write_stopped(writer, place, left + 1, known.gap_key, left)
+        write_stopped(writer, table_at(known.study, known.gap_key), left + 1, left)
     else:
-        write_passed(writer, place, point)
+        write_passed(writer, place, known)
+
+
+def write_twin_look(writer, place, point):
+    word, is_parting, good, behind = point
+    if place.cells_left == 0:
+        writer.has_stopped = True
+    else:
+        write_cell(writer, place, good, behind)
+
+
+def write_either(writer, place, point):
+    for index in point[1]:
+        if holds(place, index, place.cells_left):
+            place.index = index
+            return
+
+
+def write_late(writer, place, point):
+    word, ahead, high, size, room, body, behind = point
+    if can_leave_late(point, place.cells_left) and holds(place, behind, place.cells_left):
+        writer.going.pop()
+        place.index = behind
+    else:
+        write_one_turn(writer, place, body)
+
+
+def write_late_count(writer, place, point):
+    word, ahead, high, size, most, body, behind = point
+    at = writer.going.pop()
+    if can_leave_late(point, place.cells_left) and holds(place, behind, place.cells_left):
+        place.index = behind
+    else:
+        writer.cells[at] = late_count(point, place.cells_left)
+        place.index = body
+
+
+def write_twin_fill(writer, place, point):
+    place.index = point[-1] if place.cells_left == 0 else point[-2]
+
+
+def write_twin_need(writer, place, point):
+    word, fewer, many, behind, alone = point
+    place.index = behind if place.cells_left >= many else alone
 
 
 WRITINGS = {
     "end": write_end, "look": write_look, "choice": write_choice, "turn": write_turn, "leave": write_leave,
     "enter": write_enter, "count": write_count, "loop": write_loop, "fill": write_fill, "if left": write_if_left,
     "need": write_need, "pad": write_pad, "within": write_within,
+    "twin end": write_end, "twin look": write_twin_look, "either": write_either, "late": write_late,
+    "late count": write_late_count, "twin fill": write_twin_fill, "twin need": write_twin_need,
+    "side within": write_within, "twin within": write_within,
 }
 
 
