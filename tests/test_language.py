@@ -138,7 +138,8 @@ class Language(unittest.TestCase):
                 for node in owner.body:
                     if isinstance(node, ast.FunctionDef):
                         marks = {ast.unparse(one) for one in node.decorator_list}
-                        (properties if "property" in marks else methods).add(node.name)
+                        is_property = "property" in marks or node.name + ".setter" in marks
+                        (properties if is_property else methods).add(node.name)
             attributes |= {node.attr for node in ast.walk(tree)
                            if isinstance(node, ast.Attribute) and not isinstance(node.ctx, ast.Load)}
         self.assertEqual(methods & (attributes | properties), set())

@@ -30,6 +30,8 @@ def differs(reader, other, row, *, places=True):
 def parted(reader, other, *, places=True):
     """A row with the fewest cells of which the outcomes differ, or None."""
     check_pair(reader, other)
+    if reader == other:
+        return None
     study = TwinStudy((reader.study, other.study), bool(places))
     length = least_length(table_at(study, PARTED))
     return None if length is None else written(study, PARTED, length).cells

@@ -96,11 +96,12 @@ class Session:
 
     def apply(self, *changes):
         """Make changes of the reader, as one step."""
-        self.now = Moment(changed(self.reader, *changes), (*self.now.steps, changes), self.now)
+        present = self.now.present
+        self.now = Moment(changed(present, *changes), (*self.now.steps, changes), self.now)
 
     def verdict(self):
         """The verdict on the present reader."""
-        return verdict_of(self.reader)
+        return verdict_of(self.now.present)
 
     def history(self):
         """A new list of what the steps were."""
@@ -127,14 +128,14 @@ class Session:
         check_goal(goal)
         with self.trial():
             apply_each(self, changes)
-            return has_reached(self.reader, goal)
+            return has_reached(self.now.present, goal)
 
     def kept_if(self, *changes, goal="never"):
         """Make these changes step by step, but keep them only if the reader then has reached a goal."""
         check_goal(goal)
         with self.trial() as attempt:
             apply_each(self, changes)
-            has_goal = has_reached(self.reader, goal)
+            has_goal = has_reached(self.now.present, goal)
             if has_goal:
                 attempt.keep()
             return has_goal
@@ -158,7 +159,8 @@ class Session:
         self.now = Moment(other, (*self.now.steps, ("part", at)), self.now)
 
     def __call__(self, row):
-        return self.reader(row)
+        present = self.now.present
+        return present(row)
 
     def __len__(self):
         return len(self.now.steps)

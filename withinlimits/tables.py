@@ -13,6 +13,7 @@ from withinlimits.sets import LengthSet, least_period, least_start
 
 MOST_STAGES = 20000
 MOST_MARKS = 8000000
+MOST_SKIPPED = 64000000
 
 KINDS = ("read", "refused", "beyond", "endless")
 
@@ -110,6 +111,8 @@ def twin_within_of(table, point):
     """A limit for two readers that read alike up to it, behind which both go on or one alone."""
     word, place, most, rest, reader, behind = point
     study = table.study
+    if reader == "alike":
+        return Within(study.sides[0], point, "twin", (passing(place, rest), None, None))
     # By places one that goes on alone has not looked on yet, so it must be at the end.
     is_held = study.is_by_places and reader != "both"
     pass_key = (place, reader, "at end" if is_held or rest == "exact" else "always", False)
@@ -148,7 +151,7 @@ def add_stage(table):
     """Decide all points for one cell more."""
     left = len(table.stages)
     points = table.layout.points
-    if (left + 1) * table.width > MOST_MARKS or left > MOST_STAGES:
+    if (left + 1) * len(points) > MOST_MARKS or (left + 1) * table.width > MOST_SKIPPED or left > MOST_STAGES:
         raise TooLarge("lengths")
     before = table.stages[left - 1] if left > 0 else []
     if left > 0:

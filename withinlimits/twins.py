@@ -157,8 +157,9 @@ def lay_twin_counted(layout, parts, path, behind):
 
 def lay_twin_within(layout, parts, path, behind):
     word, manner, most, limit, rest, inner = parts[0]
-    ways = [add_point(layout, ("twin within", path, most, rest, reader, after))
-            for reader, after in zip(READERS, behind)]
+    # Where both make the same checks, they are alike behind the limit too.
+    ends = READERS if inner != parts[1][5] else ("alike",)
+    ways = [add_point(layout, ("twin within", path, most, rest, end, after)) for end, after in zip(ends, behind)]
     limited = [add_point(layout, ("either", tuple(ways)))]
     for side, after in enumerate(behind[1:]):
         # By places nothing behind a look of one alone matters.
