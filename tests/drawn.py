@@ -3,7 +3,7 @@
 import itertools
 import random
 
-from withinlimits.parts import counted_parts, is_part, parts_of, subparts
+from withinlimits.parts import MANNER_AT, counted_parts, is_part, parts_of, subparts, with_field, with_parts
 from withinlimits.reading import Reader
 
 KINDS = ("read", "refused", "beyond", "endless")
@@ -127,5 +127,29 @@ def large_readers(seed, many):
         part = large_part(draw, 7)
         if (is_part(part) and 8 <= len(subparts(part)) <= 15 and 25 <= spread(part) <= 54
                 and limits_in_one_another(part) <= 2):
+            readers.append(Reader(part))
+    return readers
+
+
+def checked_part(draw, part, bare):
+    """The part with checked looks, but for so many of a hundred."""
+    inner = [checked_part(draw, one, bare) for one in parts_of(part)]
+    part = with_parts(part, inner) if inner else part
+    if part[0] in MANNER_AT:
+        return with_field(part, MANNER_AT[part[0]], "bare" if draw.randrange(100) < bare else "checked")
+    return part
+
+
+def well_checked_readers(seed, many, bare=15, large=False):
+    """This many readers, most of whose looks are checked, half of them within a limit."""
+    draw = random.Random(seed)
+    some = iter(large_readers(seed, many) if large else drawn_readers(seed, 3 * many, 5, 10, 24))
+    readers = []
+    while len(readers) < many:
+        part = checked_part(draw, next(some).part, bare)
+        if not large and draw.random() < 0.5:
+            part = ("within", "checked", draw.choice((None, None, 0, 3)), draw.choice(("nested", "cut", "told")),
+                    draw.choice(("skip", "exact")), part)
+        if is_part(part):
             readers.append(Reader(part))
     return readers

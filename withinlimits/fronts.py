@@ -61,8 +61,8 @@ class Front:
         behind = [set_of_mask(mask, start, period) for mask in masks]
         return Front(*behind)
 
-    def __contains__(self, k):
-        return any([k in one for one in self.places])
+    def __contains__(self, x):
+        return any([x in one for one in self.places])
 
     def __bool__(self):
         return any([bool(one) for one in self.places])

@@ -222,4 +222,5 @@ def mark_points(table, now, before, left, low, high):
     for index in range(low, high):
         point = points[index]
         action = MARKERS[point[0]]
-        now[index] = action(table, now, before, left, index, point)
+        # What was found ahead of this holds on, so that a loop in a loop need not be closed anew.
+        now[index] = now[index] | action(table, now, before, left, index, point)

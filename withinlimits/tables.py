@@ -12,6 +12,7 @@ from withinlimits.plain import common_multiple
 from withinlimits.sets import LengthSet, least_period, least_start
 
 MOST_STAGES = 20000
+FEW_STAGES = 40
 MOST_MARKS = 8000000
 MOST_SKIPPED = 64000000
 
@@ -236,13 +237,22 @@ def repeat_of(table):
             start, state, wait = len(table.stages) - 1, state_of(table), 2 * wait
 
 
-def least_length(table):
-    """The least length with which a reading can end as asked, or None."""
-    start, period = repeat_of(table)
-    for length in range(start + period):
+def first_end(table, low, high):
+    """The least length from low to below high with which a reading can end as asked, or None."""
+    for length in range(low, high):
         if can_end(table, length):
             return length
     return None
+
+
+def least_length(table):
+    """The least length with which a reading can end as asked, or None."""
+    # Where there is one it is mostly found long before the stages repeat.
+    length = first_end(table, 0, FEW_STAGES)
+    if length is None:
+        start, period = repeat_of(table)
+        length = first_end(table, FEW_STAGES, start + period)
+    return length
 
 
 def lengths_of_table(table):

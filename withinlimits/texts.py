@@ -45,6 +45,7 @@ SHOWN = {
     "pad": show_word_and_number,
 }
 
+
 def line_of(part):
     """The line of a part itself, without the blanks ahead."""
     action = SHOWN[part[0]]
