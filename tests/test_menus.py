@@ -3,7 +3,7 @@ import random
 import unittest
 
 from drawn import drawn_readers
-from made import BARE, CELL, GREAT, NOTHING, ONE, choice, counted, fill, if_left, pad, row, times, within
+from made import BARE, CELL, GREAT, NOTHING, choice, counted, fill, if_left, pad, row, times, within
 from strange import strange_objects
 from withinlimits.errors import LimitError, NoChange, NoPart, NoWord, TooLarge
 from withinlimits.lengths import lengths_of, verdict_of
