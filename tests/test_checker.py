@@ -188,6 +188,10 @@ WALKS = (
      ((NONE, (FULL,), (FULL,), (FULL,)),), ((NONE, (FULL,), (FULL,), (NONE,)),)),
     (row(need(3), within(row(if_left(CELL), CELL), "told")), ((FROM(2),), (FROM(1),), (FULL,)), ((FROM(3),),)),
     (row(need(2), within(row(if_left(CELL), CELL), "told")), (), ((FROM(2),), (FULL,))),
+    # In a gap the part of an if left is read with all that can be left.
+    (within(if_left(CELL), "told"), (), ((FULL,),)),
+    (row(need(2), within(if_left(CELL), "told")), ((FULL,), (FROM(0),)), ((FROM(1),), (NONE,))),
+    (within(if_left(CELL), "told", most=0), ((FULL,), (ONLY(0),)), ((NONE,),)),
     (row(need(2), within(row(CELL, pad(2)), "told")), (), ((FROM(2),),)),
     (row(need(3), within(row(CELL, pad(2)), "told")), ((FROM(2),),), ((FROM(3),),)),
     (row(need(4), within(counted(CELL, most=2), "told")), ((FROM(1),),), ((FROM(3),),)),

@@ -227,6 +227,10 @@ class Sizes(unittest.TestCase):
                 call()
             self.assertEqual(caught.exception.limit, "period")
         self.assertEqual(front.read().sets()[1], LengthSet((), 0, 71, (70,)))
+        for front, lengths in ((Front.begin(FULL, 6000), FULL), (Front.begin(FULL, 500), LengthSet((), 0, 4999, (0,)))):
+            with self.assertRaises(TooLarge) as caught:
+                front.passed(lengths)
+            self.assertEqual(caught.exception.limit, "period")
 
 
 if __name__ == "__main__":

@@ -145,7 +145,7 @@ class NoChanges(unittest.TestCase):
                choice(times(2, CELL)), if_left(need(3)))
     WRONG = (
         ("look",), ("look", (), 1), ("look", (0,), None), ("Look", (0,)), ("look ", (0,)), ("", (0,)), (b"look", (0,)),
-        (None, (0,)), (True, (0,)), (("look",), (0,)), ("look", ()), ("look", (4,)), ("look", (3, 0)), ("look", (5,)),
+        (None, (0,)), (True, (0,)), (("look",), (0,)), (["look"], (0,)), ("look", ()), ("look", (4,)), ("look", (3, 0)), ("look", (5,)),
         ("look", (6, 0)), ("look", (7,)), ("look", (7, 0)), ("look", (8,)), ("look", (-1,)), ("look", (0, 0)),
         ("look", [0]), ("look", 0), ("look", "0"), ("look", None), ("look", (False,)), ("look", (True,)),
         ("look", (0.0,)), ("look", ("0",)), ("look", (1, False)), ["look", (0,)], "look", ("need",), ("need", ()),
@@ -160,6 +160,7 @@ class NoChanges(unittest.TestCase):
         ("limit", (3,), 1), ("limit", (3,), ("cut",)), ("limit", (3,), "skip"), ("limit", (3,)), ("limit", (1,), "cut"),
         ("limit", (), "cut"), ("rest", (3,), "cut"), ("rest", (3,), None), ("rest", (3,), True), ("rest", (0,), "skip"),
         ("rest", (3,)), ("rest", (), "exact"), ("part", (0,), CELL), ("low", (0,), 1), ("times", (6, 0), 3),
+        (["need"], (), 1), ({"need"}, (), 1), (("need",), (), 1), (b"need", (), 1), (None, (), 1),
         ("pad", (5, 0), 3), (1, (0,), 2), ("cell", (0,)), (), ((), "look"), ((0,), "look"),
     )
 

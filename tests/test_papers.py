@@ -231,6 +231,9 @@ class Papers(unittest.TestCase):
         self.assertEqual(paper_of(Reader(part)), ("never", (FROM(2), (FULL,), (NONE,))))
         part = within(counted(NOTHING), rest="exact")
         self.assertEqual(paper_of(Reader(part)), ("never", (ONLY(1), (FULL,), (FROM(1),))))
+        part = within(row(fill(CELL), fill(CELL), CELL), rest="exact")
+        self.assertEqual(paper_of(Reader(part)), ("never", (NONE, (FULL,), (ONLY(0),), (FULL,), (ONLY(0),))))
+        self.is_right(Reader(part), paper_of(Reader(part)))
 
     def test_beyond(self):
         self.assertEqual(paper_of(Reader(BARE)), ("beyond", ()))

@@ -304,6 +304,8 @@ class Sessions(Judged):
         session[(0,)] = CELL
         self.assertIs(made[4] in session, True)
         self.assertIs(("part", (0,)) in session, False)
+        for thing in [(letter,) for letter in "reader"] + [("r", "e"), ("e", "a", "d"), "r", ("part",), ("part", 0)]:
+            self.assertIs(thing in session, False)
 
     def test_later_changes_of_a_history(self):
         session = Session(START)
