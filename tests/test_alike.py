@@ -2,7 +2,7 @@ import random
 import time
 import unittest
 
-from drawn import all_rows, drawn_part, large_readers, limits_in_one_another, spread
+from drawn import all_rows, checked_part, drawn_part, large_readers, limits_in_one_another, spread
 from lazy import Chooser, readings
 from made import BARE, CELL, GREAT, NOTHING, ONE, choice, counted, fill, if_left, pad, row, times, within
 from strange import strange_objects
@@ -37,6 +37,17 @@ def with_one_other_check(draw, part):
     other = with_drawn_checks(draw, one, False)
     inner = parts_of(one)
     return replaced(part, path, with_parts(other, inner) if inner else other)
+
+
+def with_drawn_needs(draw, part):
+    """A part of the same format with the same looks, and drawn needs and aheads."""
+    inner = [with_drawn_needs(draw, one) for one in parts_of(part)]
+    part = with_parts(part, inner) if inner else part
+    if part == NOTHING:
+        return draw.choice((NOTHING, NOTHING, need(1), need(2), need(3)))
+    if part[0] == "counted" and size_of(part[4]) is not None:
+        return with_field(part, 3, draw.choice((None, None, 0, 1, 2)))
+    return part
 
 
 def drawn_pairs(seed, many, great=False, **most):
@@ -141,6 +152,10 @@ KNOWN = (
     (row(within(row(CELL, need(9)), "cut"), need(8)), row(within(row(CELL, need(8)), "cut"), need(8)), 10, 18),
     (row(within(NOTHING), pad(3), need(4)), row(within(NOTHING), pad(3, "bare"), need(4)), 1, 1),
     (fill(within(fill(row(CELL, need(1))))), fill(within(fill(row(CELL, NOTHING)))), 2, 2),
+    # One of the readers goes on alone behind a limit, and may be refused there as the other was in it.
+    (row(within(row(NOTHING, CELL)), need(1)), row(within(row(need(2), CELL)), NOTHING), 2, 3),
+    (row(within(row(NOTHING, CELL)), need(3)), row(within(row(need(2), CELL)), need(1)), 2, 4),
+    (row(within(need(2)), CELL, need(2)), row(within(need(1)), CELL, NOTHING), 2, 3),
 )
 
 
@@ -286,6 +301,31 @@ class Drawn(unittest.TestCase):
                 pairs.append((Reader(one), Reader(other)))
         seen = self.check(pairs, 14, 400)
         self.assertGreater(sum(1 for length in seen if length is not None and length >= 10), 3)
+
+    def test_needs_in_limits_and_behind_them(self):
+        """Readers one of which is refused in a limit, while the other goes on and may be refused behind it."""
+        draw = random.Random(138)
+        inner = (row(NOTHING, CELL), row(CELL, NOTHING), row(NOTHING, CELL, CELL), NOTHING, CELL, counted(CELL),
+                 fill(row(CELL, NOTHING)), row(NOTHING, fill(CELL)), choice(CELL, NOTHING), counted(NOTHING, 1),
+                 if_left(row(CELL, CELL)), row(CELL, pad(2)))
+        outer = (NOTHING, CELL, row(NOTHING, CELL), row(CELL, NOTHING), fill(row(NOTHING, CELL)), pad(2),
+                 if_left(row(NOTHING, CELL)), counted(CELL), within(row(NOTHING, CELL)), row(fill(CELL), NOTHING),
+                 counted(NOTHING))
+        pairs = []
+        while len(pairs) < 160:
+            limited = within(draw.choice(inner), draw.choice(("nested", "cut", "told")), draw.choice(("skip", "exact")),
+                             draw.choice((None, None, 1, 2)))
+            ahead = draw.choice((NOTHING, NOTHING, NOTHING, draw.choice(outer)))
+            part = row(ahead, limited, draw.choice(outer), NOTHING)
+            if draw.random() < 0.3:
+                part = within(part, draw.choice(("nested", "cut")), draw.choice(("skip", "exact")))
+            part = checked_part(draw, part, draw.choice((0, 0, 20)))
+            one, other = with_drawn_needs(draw, part), with_drawn_needs(draw, part)
+            if is_part(one) and is_part(other) and one != other:
+                pairs.append((Reader(one), Reader(other)))
+        seen = self.check(pairs, 9, 400)
+        self.assertGreater(seen.count(None), 50)
+        self.assertGreater(len(set(seen)), 6)
 
     def test_none_of_any_length(self):
         """Readers whose checks differ, though no row tells them apart."""
