@@ -152,6 +152,11 @@ KNOWN = (
     (row(within(row(CELL, need(9)), "cut"), need(8)), row(within(row(CELL, need(8)), "cut"), need(8)), 10, 18),
     (row(within(NOTHING), pad(3), need(4)), row(within(NOTHING), pad(3, "bare"), need(4)), 1, 1),
     (fill(within(fill(row(CELL, need(1))))), fill(within(fill(row(CELL, NOTHING)))), 2, 2),
+    # Cells are left over in a limit whose checks differ, though in it both read alike.
+    (row(within(row(need(2), need(1))), need(1)), row(within(row(need(2), need(2))), need(2)), 4, 4),
+    (row(within(row(need(3), need(1)), "cut"), need(3)), row(within(row(need(3), NOTHING), "cut"), need(2)), 6, 6),
+    # Behind many cells.
+    (row(times(6, times(6, CELL)), times(6, CELL), CELL), row(times(6, times(6, CELL)), times(6, CELL), BARE), 42, 42),
     # One of the readers goes on alone behind a limit, and may be refused there as the other was in it.
     (row(within(row(NOTHING, CELL)), need(1)), row(within(row(need(2), CELL)), NOTHING), 2, 3),
     (row(within(row(NOTHING, CELL)), need(3)), row(within(row(need(2), CELL)), need(1)), 2, 4),
@@ -182,6 +187,14 @@ class Known(unittest.TestCase):
             self.assertEqual(again, cells)
             again.append(1)
             self.assertEqual(parted(*pair, places=places), cells)
+
+    def test_behind_many_cells(self):
+        for tens in range(1, 7):
+            for many in range(10):
+                ahead = row(times(tens, row(*[CELL] * 10)), *[CELL] * many)
+                parts = row(ahead, CELL), row(ahead, BARE)
+                self.check([Reader(part) for part in parts], False, 10 * tens + many)
+                self.check([Reader(within(part)) for part in parts], False, 10 * tens + many + 1)
 
     def test_the_example(self):
         one, other = Reader(row(need(2), CELL, CELL)), Reader(row(NOTHING, CELL, CELL))
