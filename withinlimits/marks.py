@@ -201,7 +201,7 @@ def mark_within(table, now, before, left, index, point):
         return table.whole
     if known.most is not None and left >= known.most:
         return mark
-    if left in known.gaps:
+    if known.gap_key is not None and left in known.gaps:
         return table.whole
     return mark | table.refused if known.limit == "nested" else mark
 
